@@ -1,0 +1,1 @@
+"""Partlabels: counters that number the parts of documents."""
