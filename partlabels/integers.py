@@ -7,3 +7,8 @@ def is_natural(value):
     if not isinstance(value, int) or isinstance(value, bool):
         return False
     return value >= 0
+
+
+def is_within(value, least, greatest):
+    """Tell whether a value of any kind is an integer between two bounds from 0 on, or one of these."""
+    return is_natural(value) and least <= value <= greatest

@@ -18,6 +18,7 @@ BUILTINS = """len range enumerate zip min max sum abs sorted reversed int str bo
 DECORATORS = ("property", "staticmethod", "classmethod")
 UNUSED = re.compile(r"\b(typing|enum|Enum|Generic|Protocol|ABC|namedtuple|abstractmethod|_wall|_WallAttr)\b")
 STRANGE = (ast.Global, ast.AsyncFunctionDef, ast.Await, ast.Div, ast.MatMult)
+METHODS = "init eq repr str len enter exit call add mul".split()
 
 
 def trees():
@@ -98,6 +99,33 @@ class Words(unittest.TestCase):
                     if isinstance(node, ast.Constant):
                         self.assertNotIsInstance(node.value, (float, complex))
                         self.assertNotIn("%", str(node.value))
+
+    def test_double_underscores(self):
+        for path, tree in trees():
+            for node in ast.walk(tree):
+                if isinstance(node, ast.FunctionDef) and node.name.startswith("__"):
+                    with self.subTest(path.name, method=node.name):
+                        self.assertIn(node.name, [f"__{word}__" for word in METHODS])
+                        if node.name in ("__add__", "__mul__", "__eq__"):
+                            self.assertEqual([parameter.arg for parameter in node.args.args], ["self", "other"])
+
+    def test_what_goes_over_a_generator(self):
+        # Beside classes with `==`, functions such as `any` and `sorted` take lists.
+        for path, tree in trees():
+            for node in ast.walk(tree):
+                with self.subTest(path.name, line=getattr(node, "lineno", 0)):
+                    self.assertNotIsInstance(node, ast.GeneratorExp)
+
+    def test_no_two_files_import_from_each_other(self):
+        imports = {}
+        for path, tree in trees():
+            found = [node.module for node in tree.body if isinstance(node, ast.ImportFrom)]
+            imports[f"partlabels.{path.stem}"] = [name for name in found if name not in LIBRARY]
+        while imports:
+            free = [name for name, needed in imports.items() if not any(other in imports for other in needed)]
+            self.assertNotEqual(free, [], imports)
+            for name in free:
+                del imports[name]
 
     def test_decorators(self):
         for path, tree in trees():
