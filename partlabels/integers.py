@@ -1,12 +1,15 @@
 """What counts as an integer."""
 
 
+def is_number(value):
+    """Tell whether a value of any kind is an integer."""
+    # To Python, True and False are integers; to this package they are not.
+    return isinstance(value, int) and not isinstance(value, bool)
+
+
 def is_natural(value):
     """Tell whether a value of any kind is an integer from 0 on."""
-    # To Python, True and False are integers; to this package they are not.
-    if not isinstance(value, int) or isinstance(value, bool):
-        return False
-    return value >= 0
+    return is_number(value) and value >= 0
 
 
 def is_within(value, least, greatest):

@@ -140,3 +140,79 @@ def walk(plain, seed, most):
             break
         document.append(rng.choice(let))
     return document
+
+
+def small_told(seed, most_counters=3, most_kinds=3, most_deeds=3, greatest=2):
+    """What a scheme with small numbers is made from, so that its values often agree by chance."""
+    rng = random.Random(f"small {seed}")
+    counters = list("abcd")[:rng.randint(1, most_counters)]
+    kinds = list("klmnop")[:rng.randint(1, most_kinds)]
+    parts = {}
+    for kind in kinds:
+        words = [rng.choice(["add", "add", "set"]) for _ in range(rng.randint(0, most_deeds))]
+        deeds = [(word, rng.choice(counters), rng.randint(word == "add", greatest)) for word in words]
+        parts[kind] = (deeds, some_label(rng, counters))
+    follows = {kind: [other for other in kinds if rng.random() < 0.7] for kind in kinds}
+    begins = [kind for kind in kinds if rng.random() < 0.6]
+    return {"starts": {counter: rng.randint(0, greatest) for counter in counters}, "kinds": parts,
+            "follows": rng.choice([None, follows, follows]), "begins": rng.choice([None, begins, begins])}
+
+
+def great_told(seed):
+    """What a scheme at the limits is made from: four counters, six kinds, six deeds each."""
+    rng = random.Random(f"great {seed}")
+    counters, kinds = rng.sample(NAMES, 4), rng.sample(NAMES, 6)
+    parts = {}
+    for kind in kinds:
+        words = [rng.choice(["add"] * (seed % 4 + 1) + ["set"]) for _ in range(6)]
+        deeds = [(word, rng.choice(counters), rng.randint(1, 99)) for word in words]
+        shown = [(name, rng.choice(["figures", "letters"])) for name in rng.sample(counters, 4)]
+        parts[kind] = (deeds, Label(rng.choice(["", "Part "]), shown, [".", "/", ":"]))
+    follows = {kind: [other for other in kinds if rng.random() < 0.8] for kind in kinds}
+    return {"starts": {counter: rng.randint(0, 99) for counter in counters}, "kinds": parts,
+            "follows": rng.choice([None, follows]), "begins": None}
+
+
+def some_documents(plain, most=2000, longest=8):
+    """All documents of the lengths from 1 on, as many lengths as stay below a number of documents."""
+    found = []
+    latest = [[kind] for kind in begins_of(plain)]
+    for _ in range(longest):
+        if not latest or len(found) + len(latest) > most:
+            break
+        found.extend(latest)
+        latest = [[*document, kind] for document in latest for kind in follows_of(plain, document[-1])]
+    return found
+
+
+def long_walks(plain, seeds=6, most=60):
+    """Some documents of up to so many parts."""
+    walks = [walk(plain, f"long {seed}", most - 7 * seed) for seed in range(seeds)]
+    return [document for document in walks if document]
+
+
+def reached_in(plain):
+    """The kinds that some document has, found by going on and on."""
+    found = set(begins_of(plain))
+    for _ in plain["kinds"]:
+        found.update(other for kind in list(found) for other in follows_of(plain, kind))
+    return found
+
+
+def rank(rows):
+    """The number of rows among some that no others sum up to, found by remainders of a great prime number."""
+    prime = 2 ** 521 - 1
+    left = [[number % prime for number in row] for row in rows]
+    many = 0
+    for place in range(len(left[0]) if left else 0):
+        found = next((row for row in left if row[place]), None)
+        if found is None:
+            continue
+        many += 1
+        left.remove(found)
+        turned = pow(found[place], -1, prime)
+        for at, row in enumerate(left):
+            if row[place]:
+                factor = row[place] * turned
+                left[at] = [(number - factor * other) % prime for number, other in zip(row, found)]
+    return many

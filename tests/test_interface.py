@@ -5,13 +5,17 @@ import inspect
 import unittest
 
 from partlabels.actions import Action, action_of, kind_action
+from partlabels.alike import alike, alike_paper, check_alike, parting
+from partlabels.bounds import bound_paper, check_bound, greatest, greatest_document, least, raising
 from partlabels.documents import documents, labels, long_label, reached, shortest_document, values
+from partlabels.equations import against_equation, equations, is_equation, remainders, spanning
 from partlabels.errors import BadDeed, BadLine, BadText, NotDocument
 from partlabels.formats import figures, letters, read_figures, read_letters
 from partlabels.labels import Label, read_label
 from partlabels.names import is_name
 from partlabels.schemes import Scheme
 from partlabels.schemetexts import read_scheme, scheme_text
+from partlabels.twice import check_once, once_paper, twice
 
 FUNCTIONS = {
     "partlabels.names": {"is_name": ["text"]},
@@ -24,6 +28,17 @@ FUNCTIONS = {
                              "reached": ["scheme"], "shortest_document": ["scheme", "kind"],
                              "long_values": ["scheme", "blocks"], "long_label": ["scheme", "blocks"]},
     "partlabels.actions": {"kind_action": ["scheme", "kind"], "action_of": ["scheme", "kinds"]},
+    "partlabels.equations": {"is_equation": ["scheme", "kind", "row"], "against_equation": ["scheme", "kind", "row"],
+                             "equations": ["scheme", "kind"], "spanning": ["scheme", "kind"],
+                             "remainders": ["scheme", "kind", "counter", "divisor"]},
+    "partlabels.alike": {"parting": ["one", "other"], "alike": ["one", "other"], "alike_paper": ["one", "other"],
+                         "check_alike": ["one", "other", "paper"]},
+    "partlabels.twice": {"twice": ["scheme", "kind"], "once_paper": ["scheme", "kind"],
+                         "check_once": ["scheme", "kind", "paper"]},
+    "partlabels.bounds": {"greatest": ["scheme", "kind", "weights"], "least": ["scheme", "kind", "weights"],
+                          "greatest_document": ["scheme", "kind", "weights"],
+                          "raising": ["scheme", "kind", "weights"], "bound_paper": ["scheme", "kind", "weights"],
+                          "check_bound": ["scheme", "kind", "weights", "bound", "paper"]},
 }
 METHODS = {
     ("partlabels.labels", "Label"): {"__init__": ["head", "shown", "joints"], "same_form": ["other"],
@@ -128,6 +143,45 @@ class Examples(unittest.TestCase):
         self.assertEqual(((one * 3).of({"a": 10, "b": 0, "x": 7}), str(one * 0)), ({"a": 16, "b": 5, "x": 7}, "nothing"))
         self.assertEqual((kind_action(example_book(), "figure"), action_of(example_book(), [])),
                          (Action({"figure": ("add", 1)}), Action({})))
+
+    def test_equations(self):
+        parts = {"figure": ([("add", "figure", 1), ("add", "total", 1)], None),
+                 "table": ([("add", "table", 2), ("add", "total", 1)], None)}
+        both = Scheme({"figure": 0, "table": 0, "total": 5}, parts)
+        self.assertEqual((equations(both, "table"), is_equation(both, "figure", (2, 1, -2, 10)),
+                          len(spanning(both, "figure"))), ([(2, 1, -2, 10)], True, 3))
+        self.assertEqual((against_equation(both, "table", (0, 1, 0, -2)), remainders(both, "figure", "table", 4)),
+                         (["table", "table"], [0, 2]))
+
+    def test_alike(self):
+        book = example_book()
+        other = book.with_deeds("chapter", [("set", "figure", 0), ("add", "chapter", 1)])
+        self.assertEqual((alike(book, other), check_alike(book, other, alike_paper(book, other))), (True, True))
+        self.assertEqual(parting(book, book.with_deeds("chapter", [("add", "chapter", 1)])),
+                         ["chapter", "figure", "chapter", "figure"])
+        self.assertIs(alike_paper(book, book.with_start("chapter", 1)), None)
+
+    def test_twice(self):
+        book = example_book()
+        self.assertEqual((twice(book, "figure"), check_once(book, "figure", once_paper(book, "figure")),
+                          check_once(book, "figure", [])), (None, True, False))
+        loose = book.with_deeds("chapter", [("set", "figure", 0)])
+        document, first, second = twice(loose, "figure")
+        self.assertEqual((labels(loose, document)[first] == labels(loose, document)[second],
+                          once_paper(loose, "figure")), (True, None))
+        self.assertIs(check_once(book, "chapter", [("chapter", ("added",)), ("figure", ("kept",)),
+                                                   ("figure", ("added",))]), True)
+
+    def test_bounds(self):
+        book = example_book()
+        self.assertEqual((greatest(book, "chapter", {"figure": 1}), greatest(book, "figure", {"figure": 1}),
+                          least(book, "figure", {"chapter": 2, "figure": 1})), (0, None, 3))
+        begin, row, end = raising(book, "figure", {"figure": 1, "chapter": -5})
+        self.assertEqual((set(row), greatest_document(book, "figure", {"chapter": -1})),
+                         ({"figure"}, ["chapter", "figure"]))
+        paper = bound_paper(book, "figure", {"chapter": -1})
+        self.assertEqual((check_bound(book, "figure", {"chapter": -1}, -1, paper),
+                          check_bound(book, "figure", {"chapter": -1}, -2, paper)), (True, False))
 
 
 if __name__ == "__main__":

@@ -19,6 +19,15 @@ DECORATORS = ("property", "staticmethod", "classmethod")
 UNUSED = re.compile(r"\b(typing|enum|Enum|Generic|Protocol|ABC|namedtuple|abstractmethod|_wall|_WallAttr)\b")
 STRANGE = (ast.Global, ast.AsyncFunctionDef, ast.Await, ast.Div, ast.MatMult)
 METHODS = "init eq repr str len enter exit call add mul".split()
+STATEMENTS = (ast.Assign, ast.AugAssign, ast.AnnAssign, ast.If, ast.While, ast.For, ast.Return, ast.Break, ast.Continue,
+              ast.Pass, ast.Raise, ast.Assert, ast.Delete, ast.With, ast.Try, ast.Expr, ast.FunctionDef, ast.ClassDef,
+              ast.ImportFrom)
+BUILTIN_METHODS = """append clear copy count endswith extend find get index insert isalnum isalpha isdigit islower isspace
+    isupper items join keys ljust lower lstrip partition pop remove replace reverse rfind rjust rpartition rsplit rstrip
+    setdefault split splitlines startswith strip update upper values zfill bit_length removeprefix removesuffix isascii
+    """.split()
+AT_ONCE = "list tuple dict sorted sum any all enumerate zip min max".split()
+CHANGING = "append clear extend insert pop remove reverse setdefault update".split()
 
 
 def trees():
@@ -126,6 +135,97 @@ class Words(unittest.TestCase):
             self.assertNotEqual(free, [], imports)
             for name in free:
                 del imports[name]
+
+    def test_statements(self):
+        for path, tree in trees():
+            for node in ast.walk(tree):
+                if isinstance(node, ast.stmt):
+                    with self.subTest(path.name, line=node.lineno):
+                        self.assertIsInstance(node, STATEMENTS)
+                if isinstance(node, ast.Compare):
+                    for sign, other in zip(node.ops, node.comparators):
+                        if isinstance(sign, (ast.Is, ast.IsNot)):
+                            self.assertIsInstance(other, ast.Constant)
+                self.assertNotIsInstance(node, (ast.Set, ast.SetComp, ast.NamedExpr), path.name)
+
+    def test_names_of_local_variables(self):
+        for path, tree in trees():
+            barred = {node.name for node in tree.body if isinstance(node, ast.ClassDef)}
+            for node in tree.body:
+                if isinstance(node, ast.ImportFrom):
+                    barred.update(alias.name for alias in node.names)
+            for node in ast.walk(tree):
+                with self.subTest(path.name, line=getattr(node, "lineno", 0)):
+                    if isinstance(node, ast.Name) and isinstance(node.ctx, ast.Store):
+                        self.assertNotIn(node.id, barred)
+                    if isinstance(node, ast.Name) and isinstance(node.ctx, ast.Load):
+                        self.assertNotEqual(node.id, "_")
+                    if isinstance(node, ast.arg):
+                        self.assertNotIn(node.arg, barred)
+
+    def test_methods_that_are_called(self):
+        own = {node.name for _, tree in trees() for node in ast.walk(tree) if isinstance(node, ast.FunctionDef)}
+        for path, tree in trees():
+            for node in ast.walk(tree):
+                if isinstance(node, ast.Attribute) and isinstance(node.ctx, ast.Load):
+                    with self.subTest(path.name, line=node.lineno):
+                        self.assertIn(node.attr, {*own, *BUILTIN_METHODS, *self.attributes()})
+
+    def attributes(self):
+        return {node.attr for _, tree in trees() for node in ast.walk(tree)
+                if isinstance(node, ast.Attribute) and isinstance(node.ctx, ast.Store)}
+
+    def test_no_name_is_a_method_and_an_attribute(self):
+        for path, tree in trees():
+            for node in ast.walk(tree):
+                if isinstance(node, ast.ClassDef):
+                    methods = {item.name for item in node.body if isinstance(item, ast.FunctionDef)}
+                    stored = {item.attr for item in ast.walk(node)
+                              if isinstance(item, ast.Attribute) and isinstance(item.ctx, ast.Store)}
+                    self.assertEqual(methods & stored, set(), (path.name, node.name))
+
+    def test_generators_have_names_of_their_own(self):
+        names, generators = [], []
+        for _, tree in trees():
+            for node in ast.walk(tree):
+                if isinstance(node, ast.FunctionDef):
+                    names.append(node.name)
+                    if any(isinstance(item, (ast.Yield, ast.YieldFrom)) for item in ast.walk(node)):
+                        generators.append(node.name)
+        for name in generators:
+            self.assertEqual(names.count(name), 1, name)
+
+    def test_what_is_iterated_at_once(self):
+        for path, tree in trees():
+            allowed = []
+            for node in ast.walk(tree):
+                if isinstance(node, (ast.For, ast.comprehension)):
+                    allowed.append(node.iter)
+                if isinstance(node, ast.Call) and isinstance(node.func, ast.Name) and node.func.id in AT_ONCE:
+                    allowed.extend(node.args)
+                if isinstance(node, ast.Call) and isinstance(node.func, ast.Name) and node.func.id == "reversed":
+                    allowed.extend(item for item in node.args if getattr(item.func, "id", "") == "range")
+            for node in ast.walk(tree):
+                if isinstance(node, ast.Call):
+                    name = getattr(node.func, "id", getattr(node.func, "attr", ""))
+                    if name in ("zip", "enumerate", "reversed", "range", "items", "keys", "values"):
+                        if name == "values" and isinstance(node.func, ast.Name):
+                            continue
+                        with self.subTest(path.name, line=node.lineno):
+                            self.assertIn(node, allowed)
+
+    def test_loops_change_nothing_that_they_go_over(self):
+        for path, tree in trees():
+            for node in ast.walk(tree):
+                if isinstance(node, ast.For):
+                    over = {ast.unparse(item) for item in ast.walk(node.iter) if isinstance(item, (ast.Name, ast.Attribute))}
+                    for item in ast.walk(ast.Module(node.body, [])):
+                        with self.subTest(path.name, line=node.lineno):
+                            if isinstance(item, ast.Call) and isinstance(item.func, ast.Attribute):
+                                if item.func.attr in CHANGING:
+                                    self.assertNotIn(ast.unparse(item.func.value), over)
+                            if isinstance(item, ast.Subscript) and isinstance(item.ctx, ast.Store):
+                                self.assertNotIn(ast.unparse(item.value), over)
 
     def test_decorators(self):
         for path, tree in trees():
