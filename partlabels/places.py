@@ -7,7 +7,7 @@ by a tuple with a number for each counted counter.
 """
 
 from partlabels.actions import changed
-from partlabels.changes import all_changes
+from partlabels.changes import all_changes, touches
 from partlabels.walks import ways_from
 
 
@@ -40,7 +40,7 @@ class Net:
         for place in self._arrows:
             for other, _ in self._arrows[place]:
                 sources[other].append((place, place[0]))
-        leading = ways_from([(goal, [])], lambda place: sources[place])
+        leading = ways_from([(goal, [])], lambda place: sources.get(place, []))
         entries = [(place, gains) for place, gains in self._entries if place in leading]
         arrows = {place: [(other, gains) for other, gains in self._arrows[place] if other in leading]
                   for place in self._arrows if place in leading}
@@ -108,8 +108,3 @@ def steps_by(changes, counted, settled):
         gains = [changes[counter][1] if counter in later else 0 for counter in counted]
         found.append((tuple(later), tuple(gains)))
     return found
-
-
-def touches(changes, counters):
-    """Tell whether a kind has deeds on some of the counters."""
-    return any([changes[counter] != ("add", 0) for counter in counters])

@@ -3,6 +3,7 @@
 from partlabels.changes import all_changes
 from partlabels.checks import check_labelled
 from partlabels.documents import shortest_document
+from partlabels.showing import shown_counters
 from partlabels.walks import ways_from
 
 MARKS = ("kept", "added", "set")
@@ -50,11 +51,6 @@ def case_ways(scheme, kind):
     steps = kind_marks(scheme, shown)
     begun = next_cases(scheme, steps, (kind, no_marks(shown)))
     return ways_from([(case, [last]) for case, last in begun], lambda case: next_cases(scheme, steps, case))
-
-
-def shown_counters(scheme, kind):
-    """Return the list of the counters that the label of a kind shows, in order."""
-    return [counter for counter, _ in scheme.label(kind).shown]
 
 
 def kind_marks(scheme, shown):

@@ -1,4 +1,4 @@
-"""The section "The interface", as far as it is built, and its examples."""
+"""The section "The interface", and its examples."""
 
 import importlib
 import inspect
@@ -8,13 +8,17 @@ from partlabels.actions import Action, action_of, kind_action
 from partlabels.alike import alike, alike_paper, check_alike, parting
 from partlabels.bounds import bound_paper, check_bound, greatest, greatest_document, least, raising
 from partlabels.documents import documents, labels, long_label, reached, shortest_document, values
+from partlabels.edits import exchange_case, put_in_case, shaken, shields
 from partlabels.equations import against_equation, equations, is_equation, remainders, spanning
-from partlabels.errors import BadDeed, BadLine, BadText, NotDocument
+from partlabels.errors import BadDeed, BadLine, BadText, NotDocument, NotLet
 from partlabels.formats import figures, letters, read_figures, read_letters
 from partlabels.labels import Label, read_label
+from partlabels.manuscripts import Manuscript
 from partlabels.names import is_name
+from partlabels.order import falling, gap
 from partlabels.schemes import Scheme
 from partlabels.schemetexts import read_scheme, scheme_text
+from partlabels.shortening import lean, needless_deeds
 from partlabels.twice import check_once, once_paper, twice
 
 FUNCTIONS = {
@@ -39,6 +43,11 @@ FUNCTIONS = {
                           "greatest_document": ["scheme", "kind", "weights"],
                           "raising": ["scheme", "kind", "weights"], "bound_paper": ["scheme", "kind", "weights"],
                           "check_bound": ["scheme", "kind", "weights", "bound", "paper"]},
+    "partlabels.order": {"falling": ["scheme", "kind"], "gap": ["scheme", "kind"]},
+    "partlabels.edits": {"put_in_case": ["scheme", "kind", "later"], "take_out_case": ["scheme", "kind", "later"],
+                         "exchange_case": ["scheme", "kind", "other", "later"], "shaken": ["scheme", "kind"],
+                         "shields": ["scheme", "kind", "later"]},
+    "partlabels.shortening": {"needless_deeds": ["scheme"], "lean": ["scheme"]},
 }
 METHODS = {
     ("partlabels.labels", "Label"): {"__init__": ["head", "shown", "joints"], "same_form": ["other"],
@@ -51,6 +60,12 @@ METHODS = {
                                        "with_label": ["kind", "label"]},
     ("partlabels.actions", "Action"): {"__init__": ["changes"], "changes": [], "of": ["values"], "__add__": ["other"],
                                        "__mul__": ["other"], "__eq__": ["other"], "__str__": []},
+    ("partlabels.manuscripts", "Manuscript"): {"__init__": ["scheme"], "put": ["index", "kind", "key"],
+                                               "drop": ["index"], "exchange": ["index"], "move": ["index", "target"],
+                                               "rekey": ["index", "key"], "parts": [], "document": [], "labels": [],
+                                               "changed": [], "scheme": [], "label_of": ["key"], "place_of": ["key"],
+                                               "told": ["text"], "__len__": [], "undo": [], "trial": [],
+                                               "tried": ["action"]},
 }
 PROPERTIES = {("partlabels.labels", "Label"): ["head", "shown", "joints"]}
 
@@ -182,6 +197,43 @@ class Examples(unittest.TestCase):
         paper = bound_paper(book, "figure", {"chapter": -1})
         self.assertEqual((check_bound(book, "figure", {"chapter": -1}, -1, paper),
                           check_bound(book, "figure", {"chapter": -1}, -2, paper)), (True, False))
+
+    def test_order(self):
+        book = example_book()
+        self.assertEqual((falling(book, "figure"), gap(book, "figure"), gap(book, "chapter")), (None, None, None))
+        loose = book.with_deeds("chapter", [("set", "figure", 0)])
+        document, first, second = falling(loose, "figure")
+        first_values, second_values = values(loose, document[:first + 1]), values(loose, document[:second + 1])
+        self.assertEqual((second_values["figure"] < first_values["figure"], gap(loose, "figure") is None), (True, False))
+        self.assertIs(gap(book.with_deeds("figure", [("add", "figure", 2)]), "figure") is None, False)
+
+    def test_edits(self):
+        book = example_book()
+        self.assertEqual((shaken(book, "figure"), shields(book, "figure", "figure"), shaken(book, "chapter")),
+                         (["figure"], ["chapter"], ["chapter", "figure"]))
+        self.assertEqual((exchange_case(book, "figure", "figure", "chapter"), put_in_case(book, "figure", "chapter")),
+                         (None, None))
+
+    def test_shortening(self):
+        book = example_book()
+        doubled = book.with_deeds("figure", [("set", "figure", 3), ("set", "figure", 8)])
+        self.assertEqual((needless_deeds(book), needless_deeds(doubled)), ([], [("chapter", 1), ("figure", 0)]))
+        self.assertEqual(lean(book.with_label("figure", None)).deeds("chapter"), [("add", "chapter", 1)])
+
+    def test_manuscripts(self):
+        manuscript = Manuscript(example_book())
+        manuscript.put(0, "chapter", key="one")
+        manuscript.put(1, "figure", key="map")
+        self.assertEqual((manuscript.told("see {map} in {one}"), len(manuscript), manuscript.changed()),
+                         ("see Figure 1.1 in Chapter 1", 2, []))
+        manuscript.put(0, "chapter")
+        self.assertEqual((manuscript.changed(), manuscript.labels(), manuscript.tried(lambda one: one.move(0, 2))),
+                         (["map", "one"], ["Chapter 1", "Chapter 2", "Figure 2.1"], None))
+        manuscript.undo()
+        self.assertEqual((manuscript.parts(), manuscript.place_of("map")), ([("chapter", "one"), ("figure", "map")], 1))
+        with self.assertRaises(NotLet) as caught:
+            manuscript.drop(0)
+        self.assertEqual((caught.exception.kind, caught.exception.other), (None, "figure"))
 
 
 if __name__ == "__main__":

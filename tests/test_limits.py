@@ -6,9 +6,14 @@ import unittest
 
 from partlabels.alike import alike, alike_paper, check_alike, parting
 from partlabels.bounds import bound_paper, check_bound, greatest, greatest_document, least, raising
+from partlabels.edits import exchange_case, put_in_case, shaken, shields, take_out_case
 from partlabels.equations import against_equation, equations, is_equation, remainders, spanning
 from partlabels.labels import Label
+from partlabels.manuscripts import Manuscript
+from partlabels.order import falling, gap
 from partlabels.schemes import Scheme
+from partlabels.schemetexts import read_scheme, scheme_text
+from partlabels.shortening import lean, needless_deeds
 from partlabels.twice import check_once, once_paper, twice
 from samples import great_told, made
 
@@ -40,7 +45,7 @@ def stepwise(seed):
 
 
 def schemes():
-    for seed in range(6):
+    for seed in range(4):
         yield made(great_told(seed))
         yield growing(seed)
         yield stepwise(seed)
@@ -100,6 +105,52 @@ class Limits(unittest.TestCase):
                     paper = bound_paper(scheme, kind, weights)
                     yield lambda: check_bound(scheme, kind, weights, 0, paper or {})
         self.check_times("bounds", asked)
+
+    def test_order(self):
+        def asked(scheme):
+            for kind in scheme.kinds():
+                yield lambda: falling(scheme, kind)
+                yield lambda: gap(scheme, kind)
+        self.check_times("order", asked)
+
+    def test_edits(self):
+        def asked(scheme):
+            for kind in scheme.kinds():
+                yield lambda: shaken(scheme, kind)
+                for later in scheme.kinds():
+                    yield lambda: (put_in_case(scheme, kind, later), take_out_case(scheme, kind, later))
+                    yield lambda: shields(scheme, kind, later)
+                    yield lambda: [exchange_case(scheme, kind, other, later) for other in scheme.kinds()]
+        self.check_times("edits", asked)
+
+    def test_shortening(self):
+        def asked(scheme):
+            yield lambda: needless_deeds(scheme)
+            yield lambda: lean(scheme)
+            for kind in scheme.kinds()[:5]:
+                scheme = scheme.with_label(kind, None)
+            yield lambda: needless_deeds(scheme)
+            yield lambda: lean(scheme)
+        self.check_times("shortening", asked)
+
+    def test_manuscripts(self):
+        def asked(scheme):
+            manuscript = Manuscript(scheme)
+            kinds = scheme.kinds()
+            yield lambda: [manuscript.tried(lambda one: one.put(0, kind)) for kind in scheme.beginners()]
+
+            def fill():
+                for index in range(100):
+                    let = [kind for kind in kinds if index == 0 or scheme.may_follow(manuscript.document()[-1], kind)]
+                    manuscript.put(index, let[index % len(let)] if index else scheme.beginners()[0])
+            yield fill
+            yield lambda: [manuscript.labels(), manuscript.changed(), [manuscript.undo() for _ in range(50)]]
+        self.check_times("manuscripts", asked)
+
+    def test_texts(self):
+        def asked(scheme):
+            yield lambda: self.assertEqual(read_scheme(scheme_text(scheme)), scheme)
+        self.check_times("texts", asked)
 
 
 if __name__ == "__main__":
