@@ -10,7 +10,7 @@ from partlabels.places import document_net, return_net, subsets
 from partlabels.showing import shown_counters
 from partlabels.walks import ways_from
 
-# From here on, numbers are alike to the question whether a counter goes on.
+# Whether a counter goes on is the same for all greater numbers as for this one.
 MANY = 2
 
 
@@ -79,12 +79,10 @@ def higher_document(scheme, kind, counted, lows):
         climb = Climb(net, [1 if other == counter else 0 for other in counted])
         if climb.is_endless():
             return raised(scheme, climb.rounds(goal), counter, low)
-        most = climb.numbers()[goal]
-        if most > low:
+        if climb.numbers()[goal] > low:
             return climb.way(goal)
-        if most < low:
-            return None
-        # Only documents with this value can still be higher, by a later counter.
+        # A document can end with the row that sets the counters so low, so none of their greatest values
+        # is less. Only documents with just this value can still be higher, by a later counter.
         net = climb.ties().leading_to(goal)
     return None
 
@@ -127,19 +125,10 @@ def joined(change, more):
 
 def gap_beginning(scheme, kind, touched, change, way):
     """Return a document behind which such a row of parts does not go on, or None if it always does."""
-    shortest = shortest_document(scheme, kind)
-    if touched:
-        if change == ("set", 1):
-            return None
-        if change == ("add", 0):
-            return against_equation(scheme, kind, value_row(scheme, shown_counters(scheme, kind)[-1], 1))
-        if change == ("add", 1):
-            # Behind the row the value is 1 at least, so it is above 1 behind the same row once more.
-            return [*shortest, *way]
-        return shortest
-    if change == ("add", 1):
+    if touched and change == ("add", 0):
+        return against_equation(scheme, kind, value_row(scheme, shown_counters(scheme, kind)[-1], 1))
+    if change == (("set", 1) if touched else ("add", 1)):
         return None
-    if change[0] == "set":
-        # Behind the row once more the value is the same again.
-        return [*shortest, *way]
-    return shortest
+    # Behind one such row, what is set has its value already, and what is added to is above 0. So the
+    # same row once more does not go on.
+    return [*shortest_document(scheme, kind), *way]

@@ -56,7 +56,8 @@ def subsets(counters):
     """Return the list of the tuples of none, some or all of the counters, in their order."""
     found = [()]
     for counter in counters:
-        found.extend([(*some, counter) for some in found])
+        further = [(*some, counter) for some in found]
+        found = [*found, *further]
     return found
 
 

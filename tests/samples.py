@@ -199,6 +199,16 @@ def reached_in(plain):
     return found
 
 
+def labelled(plain):
+    """The kinds that are reached and have a label."""
+    return sorted(kind for kind in reached_in(plain) if plain["kinds"][kind][1] is not None)
+
+
+def shown_by(plain, kind):
+    """The counters that the label of a kind shows, in order."""
+    return [counter for counter, _ in plain["kinds"][kind][1].shown]
+
+
 def rank(rows):
     """The number of rows among some that no others sum up to, found by remainders of a great prime number."""
     prime = 2 ** 521 - 1

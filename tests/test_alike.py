@@ -193,13 +193,23 @@ class Partings(Case):
                        {"kinds": {"chapter": plain["kinds"]["chapter"]}},
                        {"kinds": {"chapter": plain["kinds"]["chapter"], "figures": plain["kinds"]["figure"]}}):
             other = made({**plain, **change})
-            for left, right in ((one, other), (other, one)):
-                self.check_error(UnlikeSchemes, [], parting, left, right)
-                self.check_error(UnlikeSchemes, [], alike, left, right)
-                self.check_error(UnlikeSchemes, [], alike_paper, left, right)
-                self.check_error(UnlikeSchemes, [], check_alike, left, right, {})
-        self.assertIs(alike(other=one, one=one), True)
-        self.assertIs(parting(other=one, one=one), None)
+            self.check_unlike(one, other)
+        # One of them has a kind more, which comes in no document.
+        few = Scheme({"a": 0}, {"k": ([], None)}, begins=["k"], follows={"k": ["k"]})
+        more = Scheme({"a": 0}, {"k": ([], None), "m": ([], None)}, begins=["k"], follows={"k": ["k"]})
+        self.check_unlike(few, more)
+
+    def check_unlike(self, one, other):
+        for left, right in ((one, other), (other, one)):
+            self.check_error(UnlikeSchemes, [], parting, left, right)
+            self.check_error(UnlikeSchemes, [], alike, left, right)
+            self.check_error(UnlikeSchemes, [], alike_paper, left, right)
+            self.check_error(UnlikeSchemes, [], check_alike, left, right, {})
+
+    def test_names_of_the_parameters(self):
+        one, other = book(), book().with_start("chapter", 3)
+        self.assertEqual((alike(other=other, one=one), parting(other=other, one=one)), (False, ["chapter"]))
+        self.assertEqual((alike(other=one, one=one), parting(other=one, one=one)), (True, None))
 
 
 def some_papers(paper, rng):
@@ -296,6 +306,19 @@ class Papers(Case):
         self.assertIs(check_alike(one, one, {"k": [*rows, (10 ** 30, 0, -(10 ** 30), 0, 0)]}), True)
         for number in NO_INTEGERS:
             self.assertIs(check_alike(one, one, {"k": [*rows, (number, 0, 0, 0, 0)]}), False)
+
+    def test_papers_for_labels_of_other_forms(self):
+        one = Scheme({"a": 0, "b": 0}, {"k": ([("add", "a", 1)], read_label("K {a}.{b}")), "m": ([], None)})
+        rows = [(1, 0, -1, 0, 0), (0, 1, 0, -1, 0)]
+        paper = {"k": rows, "m": rows}
+        self.assertIs(check_alike(one, one, paper), True)
+        for label in (None, "K {a}:{b}", "{a}.{b}", "L {a}.{b}", "K {a:a}.{b}", "K {a}.{b:a}", "K {b}.{a}", "K {a}"):
+            other = one.with_label("k", None if label is None else read_label(label))
+            self.assertIs(check_alike(one, other, paper), False, label)
+            self.assertIs(check_alike(other, one, paper), False, label)
+            self.assertIs(check_alike(other, other, paper), True, label)
+        other = one.with_label("m", read_label("{a}"))
+        self.assertEqual((check_alike(one, other, paper), check_alike(other, one, paper)), (False, False))
 
     def test_a_changed_paper_has_no_effect_on_the_next_one(self):
         wanted = copy.deepcopy(alike_paper(book(), book()))

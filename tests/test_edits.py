@@ -203,6 +203,19 @@ class Chosen(Told):
                     self.check_exchange({**plain, "follows": follows}, "k", "l", "m", found)
                 self.assertIs(found is not None, wanted and lacking[1] == "m" and self.by_others(plain, follows))
 
+    def test_exchanged_only_at_the_beginning(self):
+        kinds = {"k": ([("add", "a", 1)], None), "l": ([("set", "a", 3)], None), "m": ([], read_label("{a}"))}
+        follows = {"k": ["l", "m"], "l": ["k", "m"]}
+        plain = {"starts": {"a": 0}, "kinds": kinds, "follows": follows, "begins": ["k", "l"]}
+        self.assertEqual(exchange_case(made(plain), "k", "l", "m"), (["k", "l", "m"], 0))
+        self.assertEqual(exchange_case(made(plain), "l", "k", "m"), (["l", "k", "m"], 0))
+        for begins in (["k"], ["l"], ["m"], []):
+            self.assertIs(exchange_case(made({**plain, "begins": begins}), "k", "l", "m"), None)
+        # Behind n both may stand, though neither begins.
+        plain["kinds"] = {**kinds, "n": ([], None)}
+        other = {**plain, "follows": {**follows, "n": ["k", "l"]}, "begins": ["n"]}
+        self.assertEqual(exchange_case(made(other), "k", "l", "m"), (["n", "k", "l", "m"], 1))
+
     def by_others(self, plain, follows):
         """Whether a longer row leads to a case without the step that is lacking."""
         return ("k", "l", "m") in exchange_cases({**plain, "follows": follows}, 2000, 7)

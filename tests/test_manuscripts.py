@@ -9,8 +9,7 @@ from partlabels.errors import (BadKey, BadNumber, KeyTaken, NotDocument, Nothing
 from partlabels.labels import read_label
 from partlabels.manuscripts import Manuscript
 from partlabels.names import is_name
-from samples import (Case, NO_INTEGERS, NO_NAMES, all_told, begins_of, book, first_wrong, follows_of, labels_in, made,
-                     small_told)
+from samples import Case, NO_INTEGERS, NO_NAMES, all_told, book, first_wrong, labels_in, made, small_told
 
 KEYS = ["a", "b", "map", "one", "two", "zzzzzzzz"]
 ODD_KEYS = [True, False, 0, 1, 1.0, [], ["a"], ("a",), {}, b"a", object(), *NO_NAMES]

@@ -8,8 +8,8 @@ from partlabels.errors import NoDocument, NoLabel, UnknownName
 from partlabels.labels import read_label
 from partlabels.order import falling, gap
 from partlabels.schemes import Scheme
-from samples import (Case, NO_NAMES, all_told, begins_of, book, follows_of, great_told, long_walks, made, reached_in,
-                     small_told, some_documents, values_behind)
+from samples import (Case, NO_NAMES, all_told, begins_of, book, follows_of, great_told, labelled, long_walks, made,
+                     shown_by, small_told, some_documents, values_behind)
 
 
 def samples():
@@ -17,14 +17,6 @@ def samples():
     yield from (small_told(seed) for seed in range(100))
     yield from (small_told(seed, 4, 6, 4) for seed in range(60))
     yield from all_told(24)
-
-
-def labelled(plain):
-    return sorted(kind for kind in reached_in(plain) if plain["kinds"][kind][1] is not None)
-
-
-def shown_by(plain, kind):
-    return [counter for counter, _ in plain["kinds"][kind][1].shown]
 
 
 def numbers_in(plain, kind, document):
@@ -166,6 +158,22 @@ class Falling(Told):
         self.assertIs(falling(made(plain), "k"), None)
         kinds["q"] = ([("add", "a", 5), ("add", "b", 99), ("add", "b", 79)], None)
         self.check_fall(plain, "k", falling(made(plain), "k"))
+
+    def test_the_first_number_outdoes_the_others(self):
+        # Ahead of n the first number is less, so the second one may be greater.
+        kinds = {"k": ([], read_label("{a}.{b}")), "n": ([("set", "a", 5), ("set", "b", 3)], None)}
+        plain = {"starts": {"a": 0, "b": 9}, "kinds": kinds, "follows": {"k": ["n"], "n": ["k"]}, "begins": ["k"]}
+        self.assertIs(falling(made(plain), "k"), None)
+        for start in (5, 6):
+            other = {**plain, "starts": {"a": start, "b": 9}}
+            self.check_fall(other, "k", falling(made(other), "k"))
+        kinds["o"] = ([("set", "a", 5), ("set", "b", 4)], None)
+        other = {**plain, "follows": {"k": ["n"], "n": ["k"], "o": ["k"]}, "begins": ["k", "o"]}
+        self.check_fall(other, "k", falling(made(other), "k"))
+        other["kinds"] = {**kinds, "o": ([("set", "a", 4), ("set", "b", 99)], None)}
+        self.assertIs(falling(made(other), "k"), None)
+        other["follows"] = {"k": ["n", "o"], "n": ["k"], "o": ["k"]}
+        self.check_fall(other, "k", falling(made(other), "k"))
 
     def test_some_shown_counters(self):
         label = read_label("{a}.{b}/{c}:{d:a}")

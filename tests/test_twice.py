@@ -8,8 +8,8 @@ from partlabels.errors import NoDocument, NoLabel, UnknownName
 from partlabels.labels import read_label
 from partlabels.schemes import Scheme
 from partlabels.twice import check_once, once_paper, twice
-from samples import (Case, NO_NAMES, all_told, book, follows_of, great_told, labels_in, long_walks, made, reached_in,
-                     small_told, some_documents)
+from samples import (Case, NO_NAMES, all_told, book, follows_of, great_told, labelled, labels_in, long_walks, made,
+                     shown_by, small_told, some_documents)
 
 MARKS = ("kept", "added", "set")
 
@@ -18,15 +18,6 @@ def samples():
     yield from (small_told(seed) for seed in range(200))
     yield from (small_told(seed, 4, 6, 4) for seed in range(80))
     yield from all_told(48)
-
-
-def labelled(plain):
-    """The kinds for which the functions have an answer."""
-    return sorted(kind for kind in reached_in(plain) if plain["kinds"][kind][1] is not None)
-
-
-def shown_by(plain, kind):
-    return [counter for counter, _ in plain["kinds"][kind][1].shown]
 
 
 def case_behind(plain, row, shown):
