@@ -40,7 +40,7 @@ class Net:
         for place in self._arrows:
             for other, _ in self._arrows[place]:
                 sources[other].append((place, place[0]))
-        leading = ways_from([(goal, [])], lambda place: sources.get(place, []))
+        leading = ways_from([(goal, [])], lambda at: sources.get(at, []))
         entries = [(place, gains) for place, gains in self._entries if place in leading]
         arrows = {place: [(other, gains) for other, gains in self._arrows[place] if other in leading]
                   for place in self._arrows if place in leading}

@@ -11,11 +11,11 @@ from partlabels.rows import Span
 
 
 def spanning_parts(schemes):
-    """Return tuples of a document and its point, with as few documents for each last kind as stand for all.
+    """Return the list of tuples of a document and its point that stand for all documents.
 
-    `schemes` is a list of schemes with the same documents. Each point is no sum of those of the same last
-    kind that come before it, and all points of longer documents of its kind are sums of those up to it
-    and behind it. The documents are in the order of their lengths.
+    `schemes` is a list of schemes with the same documents. For each last kind there are as few documents
+    as possible, in the order of their lengths: the point of each document that ends with this kind is a sum,
+    with fractions, of the points of those in the list that end so, too, and are not longer.
     """
     scheme = schemes[0]
     moves = {kind: moves_of(schemes, kind) for kind in scheme.kinds()}

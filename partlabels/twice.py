@@ -50,7 +50,7 @@ def case_ways(scheme, kind):
     shown = shown_counters(scheme, kind)
     steps = kind_marks(scheme, shown)
     begun = next_cases(scheme, steps, (kind, no_marks(shown)))
-    return ways_from([(case, [last]) for case, last in begun], lambda case: next_cases(scheme, steps, case))
+    return ways_from([(first, [last]) for first, last in begun], lambda case: next_cases(scheme, steps, case))
 
 
 def kind_marks(scheme, shown):
